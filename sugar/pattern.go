@@ -36,7 +36,7 @@ func (r *rewriter) assign(n *located.Node, s *scope) api.Node {
 	return assign(place, r.expr(right, s))
 }
 
-// update rewrites an assignment to a call: it calls the method update.
+// update rewrites an assignment to a call: it calls the method update, whatever Word the call on the left has.
 func (r *rewriter) update(n *located.Node, s *scope) api.Node {
 	left := n.Kids[0]
 	if r.known(left.Kids[0], s) != nil {
@@ -45,7 +45,7 @@ func (r *rewriter) update(n *located.Node, s *scope) api.Node {
 	e := r.expr(left.Kids[0], s)
 	args := r.exprs(left.Kids[2:], s)
 	args = append(args, r.expr(n.Kids[1], s))
-	return joined(syntax.Call, "", args, dot(e, "update"), word(left.Kids[1].Text))
+	return joined(syntax.Call, "", args, dot(e, "update"), word(""))
 }
 
 // stray refuses a named argument on the left of an assignment.
