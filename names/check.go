@@ -38,7 +38,7 @@ func Check(p []api.Entity) api.Errno {
 			if !small(m.Body) {
 				return api.ErrSize
 			}
-			if m.Body.Op != 0 && !rightExpr(m.Body) {
+			if !missing(m.Body) && !rightExpr(m.Body) {
 				return api.ErrForm
 			}
 		}
@@ -166,6 +166,11 @@ func forms() [api.OpLast + 1]form {
 	}
 }
 
+// missing reports whether an expression is api's zero Expr: a body or a guard that is none.
+func missing(e api.Expr) bool {
+	return e.Op == 0 && e.Text == "" && len(e.Types) == 0 && len(e.Kids) == 0
+}
+
 // rightExpr checks an expression that is not a case.
 func rightExpr(e api.Expr) bool {
 	all := forms()
@@ -176,8 +181,8 @@ func rightExpr(e api.Expr) bool {
 		}
 		for i, k := range e.Kids {
 			isCase := e.Op == api.OpMatch && i > 0
-			if e.Op == api.OpCase && i == 0 && k.Op == 0 {
-				continue // a guard that is none
+			if e.Op == api.OpCase && i == 0 && missing(k) {
+				continue
 			}
 			if isCase != (k.Op == api.OpCase) || !right(k) {
 				return false

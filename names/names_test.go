@@ -534,6 +534,31 @@ func TestCheck(t *testing.T) {
 	}
 }
 
+// TestMissing: a missing body and a missing guard are the zero Expr; all else with the Op 0 is no operation.
+func TestMissing(t *testing.T) {
+	u8 := api.Type{Kind: api.TypeName, Name: "U8", Cap: api.Val}
+	this := api.Expr{Op: api.OpThis}
+	guarded := func(guard api.Expr) api.Expr {
+		return api.Expr{Op: api.OpMatch, Kids: []api.Expr{this, {Op: api.OpCase, Types: []api.Type{u8}, Kids: []api.Expr{guard, this}}}}
+	}
+	for i, x := range []struct {
+		e    api.Expr
+		want api.Errno
+	}{
+		{api.Expr{}, api.OK}, {api.Expr{Types: []api.Type{}, Kids: []api.Expr{}}, api.OK}, {api.Expr{Text: "x"}, api.ErrForm}, {api.Expr{Types: []api.Type{{}}}, api.ErrForm},
+		{api.Expr{Types: []api.Type{u8}}, api.ErrForm}, {api.Expr{Kids: []api.Expr{{}}}, api.ErrForm}, {api.Expr{Kids: []api.Expr{this}}, api.ErrForm},
+		{api.Expr{Text: "x", Types: []api.Type{u8}, Kids: []api.Expr{this}}, api.ErrForm}, {api.Expr{Kids: make([]api.Expr, api.MaxNodes)}, api.ErrSize},
+	} {
+		for _, body := range []api.Expr{x.e, guarded(x.e)} {
+			p := program(t)
+			p[len(p)-1].Methods[1].Body = body
+			if e := Check(p); e != x.want {
+				t.Errorf("%d: error %d, want %d", i, e, x.want)
+			}
+		}
+	}
+}
+
 func TestCheckEntities(t *testing.T) {
 	deep, wide := api.Expr{Op: api.OpThis}, api.Expr{Op: api.OpSeq}
 	for range api.MaxTree {
