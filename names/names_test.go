@@ -363,7 +363,7 @@ func TestDeclarations(t *testing.T) {
 		{"type A is B type B is A", ErrCycle, []int{0}}, {"type C is A type A is (U8 | B) type B is Array[A]", ErrCycle, []int{1}}, {"type A is A", ErrCycle, []int{0}}, {"type A[A] is A", api.OK, nil}, {"type A is B[A] type B[X] is U8", ErrCycle, []int{0}}, {"trait T fun f(x: X) type A is A", ErrCycle, []int{1}},
 		{"type A is X", api.ErrScope, []int{0, 3}}, {"trait T fun f(x: A): Y type A is X", api.ErrScope, []int{0, 4, 4}}, {"type A[X] is X->U8", ErrKind, []int{0, 3, 0}}, {"type A[X] is this->X", api.OK, nil}, {"type A[X: X->U8] is X", api.OK, nil}, {"type A[X: Y] is Z", api.ErrScope, []int{0, 2, 0, 0}},
 		{"trait T[A: (U8 | A #any)]", ErrKind, []int{0, 2, 0, 0, 1}}, {"trait T[A: U8 #send]", api.OK, nil}, {"trait T[A: Array[U8 #send]]", ErrKind, []int{0, 2, 0, 0, 2}}, {"trait T is X fun f(y: Y)", api.ErrScope, []int{0, 3}}, {"type A[Y] is Y->U8", ErrKind, []int{0, 3, 0}}, {"type A is Y->U8", api.ErrScope, []int{0, 3, 0}},
-		{"trait T fun f(x: A->U8) type A is X", api.ErrScope, []int{1, 3}}, {"trait T fun f[B](x: A[B]->U8) type A[X] is X", api.OK, nil}, {"class Main class U8", api.OK, nil}, {"trait T fun f(x: main.T)", api.ErrScope, []int{0, 4, 3, 0, 0}},
+		{"trait T fun f(x: A->U8) type A is X", ErrKind, []int{0, 4, 3, 0, 0, 0}}, {"trait T fun f[B](x: A[B]->U8) type A[X] is X", api.OK, nil}, {"class Main class U8", api.OK, nil}, {"trait T fun f(x: main.T)", api.ErrScope, []int{0, 4, 3, 0, 0}},
 	} {
 		tree := parsed(t, x.text)
 		p, f, e := Resolve([]Source{{"a", parsed(t, "primitive P")}, {"main", tree}}, []string{"on"})
@@ -374,6 +374,57 @@ func TestDeclarations(t *testing.T) {
 		if e != x.e || !slices.Equal(f.Path, x.path) || f.Source != want || (p == nil) == (e == api.OK) {
 			t.Errorf("%s: error %d at %v, want %d at %v", x.text, e, f, x.e, x.path)
 		}
+	}
+}
+
+// TestLeftSides: the left side of an arrow that is an alias is a type parameter, or wrong where it stands; what else is
+// wrong with the alias is told at its declaration.
+func TestLeftSides(t *testing.T) {
+	left := []int{0, 4, 3, 0, 0, 0}
+	for _, x := range []struct {
+		left, right, aliases string
+		e                    api.Errno
+		path                 []int
+	}{
+		{"A", "U8", "type A is (U8 | X)", ErrKind, left}, {"A", "U8", "type A is U8[U8]", ErrKind, left}, {"A", "U8", "type A is U8", ErrKind, left},
+		{"A", "U8", "type A is X", ErrKind, left}, {"A", "U8", "type A is T", ErrKind, left}, {"A", "X", "type A is X", ErrKind, left},
+		{"A", "U8", "type A is (X, U8)", ErrKind, left}, {"A", "U8", "type A is this->X", ErrKind, left}, {"A", "U8", "type A is B type B is X", ErrKind, left},
+		{"A", "U8", "type A is B val type B is X", ErrKind, left}, {"A[T]", "U8", "type A[X] is Y", ErrKind, left}, {"A[U8]", "U8", "type A[X] is X", ErrKind, left},
+		{"A[X]", "U8", "type A[X] is X", ErrKind, left}, {"A[X]", "U8", "type A[X] is U8", ErrKind, left}, {"A[T, U8]", "U8", "type A[X, Y] is Y", ErrKind, left},
+		{"A[B]", "U8", "type A[X] is X type B is Y", ErrKind, left}, {"A[T] val", "U8", "type A[X] is X", ErrKind, left},
+		{"X", "U8", "type A[X] is X", api.ErrScope, left}, {"A[T, X]", "U8", "type A[X, Y] is X", api.ErrScope, append(left, 3)},
+		{"A", "U8", "type A[X] is X", ErrArity, left}, {"A[T, U8]", "U8", "type A[X] is X", ErrArity, left},
+		{"A[T[U8]]", "U8", "type A[X] is X", ErrArity, append(left, 2)}, {"A[T #any]", "U8", "type A[X] is X", ErrKind, append(left, 2)},
+		{"A[T]", "U8", "type A[X] is X", api.OK, nil}, {"A[A[T]]", "U8", "type A[X] is B[U8, X ref] type B[X, Y] is Y", api.OK, nil}, {"A[T]", "U8", "type A[X: Y] is X", api.ErrScope, []int{1, 2, 0, 0}},
+		{"A[T]", "U8", "type A[X] is X[U8]", ErrArity, []int{1, 3}}, {"A[T]", "U8", "type A[X] is X #read", ErrKind, []int{1, 3}},
+		{"A[T]", "U8", "type A[X] is B[X] val type B[X] is X", ErrKind, []int{1, 3}}, {"A[T]", "U8", "type A[X] is B[X, Z] type B[X, Y] is X", api.ErrScope, []int{1, 3, 3}},
+		{"A[T]", "X", "type A[X] is X[U8]", api.ErrScope, []int{0, 4, 3, 0, 0, 1}},
+	} {
+		text := "trait I fun f[T](x: " + x.left + "->" + x.right + ") " + x.aliases
+		_, f, e := Resolve([]Source{{"main", parsed(t, text)}}, nil)
+		if e != x.e || !slices.Equal(f.Path, x.path) {
+			t.Errorf("%s: error %d at %v, want %d at %v", text, e, f, x.e, x.path)
+		}
+	}
+	// An alias ahead of the arrow is come to first; one of another source may be there, too.
+	for text, path := range map[string][]int{"type A is X trait I fun f(x: A->U8)": {0, 3}, "use \"q\" trait I fun f(x: q.Wrong->U8)": {1, 4, 3, 0, 0, 0}} {
+		e := map[bool]api.Errno{true: ErrKind, false: api.ErrScope}[len(path) > 2]
+		_, f, got := Resolve([]Source{{"main", parsed(t, text)}, {"q", parsed(t, "type Wrong is X")}}, nil)
+		if got != e || f.Source != 0 || !slices.Equal(f.Path, path) {
+			t.Errorf("%s: error %d at %v, want %d at %v", text, got, f, e, path)
+		}
+	}
+}
+
+// TestLongAliases: what aliases stand for is found without a step for each way that leads there.
+func TestLongAliases(t *testing.T) {
+	text := "trait I fun f[T](x: A60[T]->U8, y: A60[U8]->T) type A0[X] is X"
+	for i := range 60 {
+		inner := "A" + strconv.Itoa(i)
+		text += " type A" + strconv.Itoa(i+1) + "[X] is " + inner + "[" + inner + "[X]]"
+	}
+	if _, f, e := Resolve([]Source{{"main", parsed(t, text)}}, nil); e != ErrKind || !slices.Equal(f.Path, []int{0, 4, 3, 1, 0, 0}) {
+		t.Errorf("error %d at %v", e, f)
 	}
 }
 

@@ -28,6 +28,8 @@ type unit struct {
 	params []string
 	makes  map[string]bool // the names of constructors
 	typ    *inner          // of an alias that was expanded
+	asked  bool            // whether it is known which type parameter an alias stands for
+	stands int             // its index, or -1
 	ready  *api.Entity     // of a number type, which stands nowhere
 }
 
@@ -302,6 +304,16 @@ func (r *resolver) expand(u *unit, args []*inner) *inner {
 		by[p] = args[i]
 	}
 	return r.types.replace(u.typ, by)
+}
+
+// standsFor returns the index of the type parameter of an alias that is all of its type, or -1.
+func (r *resolver) standsFor(u *unit) int {
+	if !u.asked {
+		u.asked = true
+		name, _ := r.view(u).param(u.at.Kids[3])
+		u.stands = slices.Index(u.params, name)
+	}
+	return u.stands
 }
 
 // aliased returns the type of an alias, or an unknown one, if it is wrong.

@@ -204,7 +204,7 @@ func (v *view) list(l []*located.Node) []*inner {
 	return out
 }
 
-// left resolves the left side of an arrow: this, or a type parameter.
+// left resolves the left side of an arrow: this, or a type parameter, which aliases may stand for.
 func (v *view) left(n *located.Node) *inner {
 	if n.Is(syntax.ThisType) {
 		return v.r.types.of(api.TypeSelf, "", 0, 0)
@@ -212,18 +212,36 @@ func (v *view) left(n *located.Node) *inner {
 	if !n.Is(syntax.NamedType) {
 		v.fail(n, ErrKind)
 	}
-	param, u := v.find(n.Text)
-	if !param && u == nil {
+	if param, u := v.find(n.Text); !param && u == nil {
 		v.fail(n, api.ErrScope)
 	}
-	if v.alias || !param && !u.isAlias() {
+	if _, ok := v.param(n); v.alias || !ok {
 		v.fail(n, ErrKind)
 	}
-	t := v.named(n, false)
-	if t.kind != api.TypeParam && t.kind != unknown {
-		v.fail(n, ErrKind)
+	return v.named(n, false)
+}
+
+// param returns the name of the type parameter that a type is, or that aliases in it stand for, whatever else is wrong
+// with them: that is told at their declarations. An argument that is missing is another error; it may be any type.
+func (v *view) param(n *located.Node) (string, bool) {
+	for n.Is(syntax.NamedType) {
+		param, u := v.find(n.Text)
+		if param {
+			return n.Text, true
+		}
+		if u == nil || !u.isAlias() {
+			break
+		}
+		i := v.r.standsFor(u)
+		if i < 0 {
+			break
+		}
+		if i+2 >= len(n.Kids) {
+			return "", true
+		}
+		n = n.Kids[i+2]
 	}
-	return t
+	return "", false
 }
 
 // unknown is the kind of the type of an alias that is wrong, which is told at its declaration.
