@@ -239,14 +239,14 @@ func (r *reifier) instance(n need) {
 
 // variants makes the variants of an instance's methods that are needed; it reports whether there were arguments that are new.
 func (r *reifier) variants(m *made) bool {
-	any := false
+	more := false
 	for i := range m.Methods {
 		g := m.generics[i]
 		if g == nil {
 			continue
 		}
 		for ; g.done < len(r.args[g.Name]) && m.count <= api.MaxList; g.done++ {
-			any = true
+			more = true
 			args := r.args[g.Name][g.done]
 			if fulfils(r.entities, g.Bounds, args) != api.OK {
 				continue
@@ -261,7 +261,7 @@ func (r *reifier) variants(m *made) bool {
 			r.mentionAll(v)
 		}
 	}
-	return any
+	return more
 }
 
 // program returns the program of all that was made.

@@ -196,8 +196,12 @@ func TestSupers(t *testing.T) {
 		t.Errorf("Supers with parts that are passed over: %s, error %d", show(got), e)
 	}
 	grow := []api.Entity{own("A", typ(t, "A[L[$X] ref] ref"), typ(t, "A[M[$X] ref] ref"))}
-	if got, e := Supers(grow, typ(t, "A[C ref] ref")); e != api.OK || len(got) != MaxSupers || show(got[99:]) != "A[L[M[L[L[M[L[C ref] ref] ref] ref] ref] ref] ref] ref" && len(show(got[99:])) < 20 {
-		t.Errorf("Supers that grow: %d, error %d", len(got), e)
+	got, e := Supers(grow, typ(t, "A[C ref] ref"))
+	if want := "A[C ref] ref; A[L[C ref] ref] ref; A[M[C ref] ref] ref; A[L[L[C ref] ref] ref] ref"; e != api.OK || len(got) != MaxSupers || show(got[:4]) != want {
+		t.Errorf("Supers that grow: %d, error %d: %s", len(got), e, show(got[:min(4, len(got))]))
+	}
+	if Is(grow, typ(t, "A[C ref] ref"), got[99]) != true || Is(grow, typ(t, "A[C ref] ref"), typ(t, "A[L[L[L[L[L[L[L[C ref] ref] ref] ref] ref] ref] ref] ref] ref")) {
+		t.Error("what is found behind the limit counts")
 	}
 }
 
