@@ -586,3 +586,24 @@ func flat(e api.Entity) api.Entity {
 	}
 	return e
 }
+
+// TestReifyKindZero: a type of the Kind 0 in a method stays, and the names in it are needed and made flat.
+func TestReifyKindZero(t *testing.T) {
+	p := program(t, "actor Main\n  new create(env: Env) => None\n  fun f(): U8 => 1\nclass L[A: Any #any]\n")
+	f := func(l []api.Entity) *api.Method {
+		i := slices.IndexFunc(l, func(e api.Entity) bool { return e.Name == "main.Main" })
+		return &l[i].Methods[slices.IndexFunc(l[i].Methods, func(m api.Method) bool { return m.Name == "f" })]
+	}
+	f(p).Result = api.Type{Mark: api.Ephemeral, Args: list(t, "main.L[U8 val] ref")}
+	l, e := Reify(p, "main.Main")
+	if e != api.OK || !slices.ContainsFunc(l, func(e api.Entity) bool { return e.Name == "main.L[U8 val]" }) {
+		t.Fatalf("Reify: error %d, %v", e, l)
+	}
+	if got, want := f(l).Result, (api.Type{Mark: api.Ephemeral, Args: []api.Type{types.Named("main.L[U8 val]", api.Ref, nil)}}); !types.Equal(got, want) {
+		t.Errorf("the result: %v", got)
+	}
+	f(p).Result = api.Type{Args: list(t, "$X")}
+	if _, e := Reify(p, "main.Main"); e != ErrUnbound {
+		t.Errorf("a type parameter that is left: error %d", e)
+	}
+}

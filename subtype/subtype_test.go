@@ -265,6 +265,19 @@ func TestMethodsPassedOver(t *testing.T) {
 	}
 }
 
+// TestMethodsKindZero: types of the Kind 0 are no errors of a method.
+func TestMethodsKindZero(t *testing.T) {
+	odd := api.Type{Mark: api.Ephemeral, Args: []api.Type{{}}}
+	l := []api.Entity{{Kind: api.Class, Name: "A", Methods: []api.Method{{Kind: api.Fun, Name: "m", Cap: api.Box, Result: odd}}}}
+	a := types.Named("A", api.Ref, nil)
+	if got, e := Methods(l, a); e != api.OK || !reflect.DeepEqual(got, l[0].Methods) {
+		t.Errorf("Methods: %v, error %d", got, e)
+	}
+	if m, e := Lookup(l, a, "m"); e != api.OK || !reflect.DeepEqual(m, l[0].Methods[0]) {
+		t.Errorf("Lookup: %v, error %d", m, e)
+	}
+}
+
 // TestErrors: the errors of all functions, in their order.
 func TestErrors(t *testing.T) {
 	p := program(t, first)

@@ -256,7 +256,9 @@ func TestMethod(t *testing.T) {
 		{func(m *api.Method) { m.Params[1].Type = deep(21); m.Result = wrong }, at("C iso"), api.ErrSize},
 		{func(m *api.Method) { m.Params[0].Type = wrong; m.Result = deep(21) }, at("C iso"), api.ErrForm},
 		{func(m *api.Method) { m.Result = deep(21) }, wrong, api.ErrForm},
-		{func(m *api.Method) { m.Result = api.Type{Name: "x"} }, at("C iso"), api.ErrForm},
+		{func(m *api.Method) { m.Result = api.Type{Name: "x"} }, at("C iso"), api.OK},
+		{func(m *api.Method) { m.Result = api.Type{Name: "x"} }, wrong, api.ErrForm},
+		{func(m *api.Method) { m.Result = at("(A ref, A ref)"); m.Result.Args[0] = api.Type{} }, at("C iso"), api.ErrForm},
 		{func(m *api.Method) { m.Body.Kids[0].Types[0] = wrong; m.Body.Kids[0].Kids[0].Types[1] = deep(21) }, at("C iso"), api.ErrForm},
 		{func(m *api.Method) { m.Body.Kids[1].Types[0] = wrong; m.Body.Kids[0].Kids[0].Types[1] = deep(21) }, at("C iso"), api.ErrSize},
 		{func(m *api.Method) { m.Bounds[1].Type = wrong; m.Body = tall(101) }, at("C iso"), api.ErrSize},
@@ -273,6 +275,23 @@ func TestMethod(t *testing.T) {
 	}
 	if _, e := Method(api.Method{Body: tall(101)}, []string{"A"}, nil); e != api.ErrArg {
 		t.Errorf("Method without an argument: error %d", e)
+	}
+}
+
+// TestMethodKindZero: a type of the Kind 0 stays as it is in a method, whatever else it has.
+func TestMethodKindZero(t *testing.T) {
+	deepZero := api.Type{Args: []api.Type{deep(21)}}
+	for i, z := range []api.Type{{}, {Mark: api.Ephemeral}, {Mark: -7}, {Cap: api.CapAny}, {Name: "a"}, {Args: []api.Type{{}}}, {Args: []api.Type{typ(t, "$A")}}, deepZero} {
+		for what, m := range map[string]api.Method{
+			"a bound":     {Bounds: []api.Bound{{Name: "B", Type: z}}},
+			"a parameter": {Params: []api.Param{{Name: "x", Type: z}, {Name: "y", Type: typ(t, "C ref")}}},
+			"the result":  {Result: z},
+			"the body":    {Body: api.Expr{Op: api.OpSeq, Kids: []api.Expr{{Op: api.OpUnit, Types: []api.Type{typ(t, "C ref"), z}}}}},
+		} {
+			if r, e := Method(m, []string{"A"}, []api.Type{typ(t, "C iso")}); e != api.OK || !reflect.DeepEqual(r, m) {
+				t.Errorf("%s, type %d: %v, error %d", what, i, r, e)
+			}
+		}
 	}
 }
 

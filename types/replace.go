@@ -144,8 +144,11 @@ func Method(m api.Method, params []string, args []api.Type) (api.Method, api.Err
 	first := api.OK
 	s := substitute(params, args)
 	replace := func(t api.Type) api.Type {
-		if first != api.OK || walk.IsZero(t) {
+		if first != api.OK {
 			return api.Type{}
+		}
+		if t.Kind == 0 {
+			return walk.Type(t) // whatever else it has
 		}
 		t, first = s.checked(t)
 		return t

@@ -80,6 +80,9 @@ func wrong() map[string]struct {
 	two := []api.Type{a, a}
 	return map[string]w{
 		"zero":                  {api.Type{}, api.ErrForm},
+		"kind 0, a name":        {api.Type{Name: "A"}, api.ErrForm},
+		"kind 0, a mark":        {api.Type{Mark: api.Ephemeral}, api.ErrForm},
+		"kind 0, args":          {api.Type{Args: two}, api.ErrForm},
 		"kind 8":                {api.Type{Kind: 8, Name: "A", Cap: api.Ref}, api.ErrForm},
 		"kind -1":               {api.Type{Kind: -1}, api.ErrForm},
 		"no name":               {name(""), api.ErrForm},
@@ -160,7 +163,7 @@ func TestWrong(t *testing.T) {
 			},
 		}
 		for f, call := range errs {
-			if what == "zero" && strings.HasPrefix(f, "Method") {
+			if f == "Method" && w.t.Kind == 0 {
 				continue // it stays as it is there
 			}
 			if r, e := call(); e != w.want || !reflect.DeepEqual(r, api.Type{}) {
