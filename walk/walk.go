@@ -101,6 +101,18 @@ func exprs(x api.Expr, yield func(api.Expr) bool) bool {
 	return true
 }
 
+// Body hands on an expression and then, in order, the nodes of its Kids; one with the Op 0 is none, and has no nodes below it.
+func Body(x api.Expr) iter.Seq[api.Expr] {
+	return func(yield func(api.Expr) bool) { body(x, yield) }
+}
+
+func body(x api.Expr, yield func(api.Expr) bool) bool {
+	if !yield(x) {
+		return false
+	}
+	return x.Op == 0 || !slices.ContainsFunc(x.Kids, func(k api.Expr) bool { return !body(k, yield) })
+}
+
 // Small reports whether an expression has at most so many nodes, and levels; it looks at no more of them.
 func Small(x api.Expr, nodes, depth int) bool {
 	count := 0

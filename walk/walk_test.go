@@ -86,6 +86,18 @@ func TestExprs(t *testing.T) {
 	for range walk.Exprs(x) {
 		break
 	}
+	y, s := api.Expr{Op: 10, Kids: []api.Expr{{Text: "none", Kids: x.Kids}, {Op: 1, Text: "a"}, x}}, ""
+	for n := range walk.Body(y) {
+		s += n.Text + ","
+	}
+	if s != ",none,a,,a,b,c," {
+		t.Errorf("Body: %s", s)
+	}
+	for n := range walk.Body(y) {
+		if n.Text == "none" {
+			break
+		}
+	}
 	for _, l := range []struct {
 		nodes, depth int
 		want         bool
