@@ -59,7 +59,10 @@ func Shape(x api.Expr) ([]int, api.Errno) {
 	if x.Op == 0 {
 		return nil, api.OK
 	}
-	if path, wrong := misshapen(x, nil); wrong || x.Op == api.OpCase {
+	if x.Op == api.OpCase {
+		return nil, api.ErrForm
+	}
+	if path, wrong := misshapen(x, nil); wrong {
 		return path, api.ErrForm
 	}
 	return nil, api.OK

@@ -108,10 +108,8 @@ func shaped(t *testing.T, n api.Expr, right bool) {
 	case !right && (e != api.ErrForm || !slices.Equal(got, path)):
 		t.Errorf("op %d %.20q with %d types and %d kids: error %d at %v, not at %v", n.Op, n.Text, len(n.Types), len(n.Kids), e, got, path)
 	}
-	if n.Op != api.OpCase {
-		if got, e := check.Shape(n); (e == api.OK) != right || len(got) > 0 {
-			t.Errorf("op %d alone: error %d at %v", n.Op, e, got)
-		}
+	if got, e := check.Shape(n); (e == api.OK) != (right && n.Op != api.OpCase) || len(got) > 0 {
+		t.Errorf("op %d alone: error %d at %v", n.Op, e, got)
 	}
 	kids := make([]api.Type, len(n.Kids))
 	if _, e := check.Rule(nil, check.Context{}, n, kids); e != api.ErrRange {
@@ -229,6 +227,7 @@ func TestShapeOthers(t *testing.T) {
 	if path, e := check.Shape(aCase(nothing)); e != api.ErrForm || len(path) > 0 {
 		t.Errorf("a case alone: error %d at %v", e, path)
 	}
+	aCaseAlone(t)
 	if path, e := check.Shape(seq(one, seq(one, local("")), local(""))); e != api.ErrForm || !slices.Equal(path, []int{1, 1}) {
 		t.Errorf("the first of two: error %d at %v", e, path)
 	}
@@ -256,5 +255,23 @@ func TestShapeOthers(t *testing.T) {
 	}
 	if _, e := check.Shape(seq(append(slices.Repeat([]api.Expr{one}, 4000), local(""))...)); e != api.ErrSize {
 		t.Errorf("the size ahead of the form: error %d", e)
+	}
+}
+
+// aCaseAlone: where the whole expression is a case, it is wrong itself, ahead of all that is wrong in it.
+func aCaseAlone(t *testing.T) {
+	t.Helper()
+	bad, deep := local(""), seq(one, local(""))
+	for _, n := range []api.Expr{
+		aCase(nothing), aCase(bad), aCase(deep), aCase(aCase(yes)), tx(api.OpCase, "y", "U32 iso", nothing, x(api.OpLit, "")),
+		tx(api.OpCase, "y", "U32 val", yes, deep), tx(api.OpCase, "y", "U32 val", yes, nothing), x(api.OpCase, "", seq(bad)),
+	} {
+		if path, e := check.Shape(n); e != api.ErrForm || len(path) > 0 {
+			t.Errorf("%v alone: error %d at %v", n, e, path)
+		}
+		faulty(t, "get", n, api.ErrForm)
+	}
+	if path, e := check.Shape(aCase(seq(slices.Repeat([]api.Expr{bad}, 4000)...))); e != api.ErrSize || len(path) > 0 {
+		t.Errorf("a case that is too large: error %d at %v", e, path)
 	}
 }

@@ -111,6 +111,7 @@ func TestBodyErrors(t *testing.T) {
 		}
 	}
 	claimed(t, "get", seq(one, local("")), "U8 val", api.ErrForm, 1)
+	claimed(t, "get", x(api.OpCase, "", one, local("")), "U8 val", api.ErrForm)
 	claimed(t, "get", seq(slices.Repeat([]api.Expr{one}, 4000)...), "U8 val", api.ErrSize)
 	get := x(api.OpGet, "c", this)
 	claimed(t, "get", get, "main.Cell box", derive.ErrBodies)
