@@ -1,6 +1,7 @@
 package walk_test
 
 import (
+	"reflect"
 	"slices"
 	"strings"
 	"testing"
@@ -114,5 +115,39 @@ func TestExprs(t *testing.T) {
 	}
 	if !walk.IsNone(api.Expr{Kids: []api.Expr{}}) || walk.IsNone(api.Expr{Text: "x"}) || walk.IsNone(api.Expr{Types: make([]api.Type, 1)}) {
 		t.Error("IsNone")
+	}
+}
+
+// TestProgramCopies: copies of programs and values share nothing with what they are copies of.
+func TestProgramCopies(t *testing.T) {
+	m := api.Method{Name: "f", Bounds: []api.Bound{{Name: "A", Type: sample()}}, Params: []api.Param{{Name: "a", Type: sample()}}, Result: sample(), Body: api.Expr{Op: 10, Kids: []api.Expr{{Op: 3}}}}
+	whole := func() []api.Entity {
+		return []api.Entity{{Name: "E", Bounds: []api.Bound{{Name: "A", Type: sample()}}, Provides: []api.Type{sample()}, Fields: []api.Field{{Name: "a", Type: sample()}}, Methods: []api.Method{walk.Method(m)}}}
+	}
+	p := whole()
+	c := walk.Program(p)
+	if !reflect.DeepEqual(p, c) {
+		t.Errorf("a copy of %v: %v", p, c)
+	}
+	for _, change := range []func(){
+		func() { c[0].Bounds[0].Type.Args[0].Name = "x" }, func() { c[0].Bounds[0].Name = "x" }, func() { c[0].Provides[0].Args[0].Name = "x" }, func() { c[0].Fields[0].Name = "x" },
+		func() { c[0].Fields[0].Type.Args[0].Name = "x" }, func() { c[0].Methods[0].Name = "x" }, func() { c[0].Methods[0].Bounds[0].Type.Args[0].Name = "x" }, func() { c[0].Methods[0].Bounds[0].Name = "x" },
+		func() { c[0].Methods[0].Params[0].Type.Args[0].Name = "x" }, func() { c[0].Methods[0].Params[0].Name = "x" }, func() { c[0].Methods[0].Result.Args[0].Name = "x" },
+		func() { c[0].Methods[0].Body.Kids[0].Op = 9 }, func() { c[0].Name = "x" },
+	} {
+		change()
+		if !reflect.DeepEqual(p, whole()) {
+			t.Fatal("a copy shares its memory")
+		}
+	}
+	v := api.Value{Kind: 5, Kids: []api.Value{{Kind: 5, Kids: []api.Value{{Lo: 1}}}}}
+	d := walk.Value(v)
+	if !reflect.DeepEqual(v, d) || len(walk.Values(nil)) > 0 {
+		t.Errorf("a copy of %v: %v", v, d)
+	}
+	d.Kids[0].Kids[0].Lo = 2
+	d.Kids[0].Lo = 2
+	if v.Kids[0].Kids[0].Lo != 1 || v.Kids[0].Lo != 0 {
+		t.Error("a copy of a value shares its memory")
 	}
 }
