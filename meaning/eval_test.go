@@ -222,7 +222,7 @@ func TestControl(t *testing.T) {
 		evaluated{returns(fails), raised(), 2},
 		evaluated{returns(nothing), wrong(api.ErrForm), 2},
 		evaluated{fails, raised(), 1},
-		evaluated{x(api.OpRecover, "", one), wrong(api.ErrForm), 1},
+		evaluated{x(api.OpRecover, "", one), value(u32(1)), 2},
 		evaluated{tx(api.OpRecover, "", "this iso", one), value(u32(1)), 2},
 		evaluated{tx(api.OpRecover, "", "this iso", breaks), of(meaning.Break), 2},
 	)
@@ -326,12 +326,13 @@ func TestValues(t *testing.T) {
 func TestForms(t *testing.T) {
 	type shape struct{ types, kids []int }
 	fixed := func(types int, kids ...int) shape { return shape{[]int{types}, kids} }
+	open := func(kids ...int) shape { return shape{[]int{0, 1}, kids} }
 	all := []int{0, 1, 2, 3, 4, 5}
 	shapes := map[int]shape{
-		api.OpLit: fixed(1, 0), api.OpLocal: fixed(0, 0), api.OpThis: fixed(0, 0), api.OpGet: fixed(0, 1), api.OpSet: fixed(0, 2), api.OpVar: fixed(1, 0, 1), api.OpLet: fixed(1, 0, 1),
+		api.OpLit: fixed(1, 0), api.OpLocal: fixed(0, 0), api.OpThis: fixed(0, 0), api.OpGet: fixed(0, 1), api.OpSet: fixed(0, 2), api.OpVar: open(0, 1), api.OpLet: open(0, 1),
 		api.OpAssign: fixed(0, 1), api.OpConsume: fixed(0, 0), api.OpSeq: fixed(0, all...), api.OpIf: fixed(0, 3), api.OpWhile: fixed(0, 3), api.OpMatch: fixed(0, 1, 2, 3, 4, 5), api.OpCase: {},
 		api.OpTry: fixed(0, 3), api.OpError: fixed(0, 0), api.OpReturn: fixed(0, 0, 1), api.OpBreak: fixed(0, 0), api.OpContinue: fixed(0, 0), api.OpCall: {all, all[1:]}, api.OpNew: {all[1:], all},
-		api.OpRecover: fixed(1, 1), api.OpTuple: fixed(0, 2, 3, 4, 5), api.OpItem: fixed(0, 1), api.OpIs: fixed(0, 2), api.OpUnit: fixed(1, 0),
+		api.OpRecover: open(1), api.OpTuple: fixed(0, 2, 3, 4, 5), api.OpItem: fixed(0, 1), api.OpIs: fixed(0, 2), api.OpUnit: fixed(1, 0),
 	}
 	w := begun(t)
 	for op, s := range shapes {

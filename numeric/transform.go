@@ -45,16 +45,11 @@ func Twiddles(n int) ([]Number, api.Errno) {
 		return nil, api.ErrSize
 	}
 	c, s := turn(n)
-	l := make([]Number, n)
-	l[0] = Of(1, 0)
-	step := Conj(Of(float32(c), float32(s)))
-	for m := 1; m < n; m++ {
-		l[m] = step
-		if m > 1 {
-			l[m] = Mul(l[m-1], step)
-		}
+	l := []Number{Of(1, 0), Conj(Of(float32(c), float32(s)))}
+	for len(l) < n {
+		l = append(l, Mul(l[len(l)-1], l[1]))
 	}
-	return l, api.OK
+	return l[:n], api.OK
 }
 
 // turn returns the parts of the first factor of a transform, the second one without its sign.

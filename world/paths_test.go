@@ -241,6 +241,49 @@ func TestSeen(t *testing.T) {
 	}
 }
 
+// TestOddTypes: in a type that is not well-formed nothing is seen.
+func TestOddTypes(t *testing.T) {
+	name := func(change func(*api.Type)) api.Type {
+		n := ty("main.Cell ref")
+		change(&n)
+		return n
+	}
+	for i, typ := range []api.Type{
+		{}, {Kind: 99}, {Kind: api.TypeArrow}, {Kind: api.TypeArrow, Args: []api.Type{ty("main.Cell ref")}}, {Kind: api.TypeUnion}, {Kind: api.TypeBoth}, {Kind: api.TypeTuple},
+		name(func(n *api.Type) { n.Cap = 0 }), name(func(n *api.Type) { n.Cap = api.CapAny }), name(func(n *api.Type) { n.Mark = 3 }), name(func(n *api.Type) { n.Name = "" }),
+		name(func(n *api.Type) { n.Args = []api.Type{{}} }), name(func(n *api.Type) { n.Name = long(301) }),
+	} {
+		p := program(t)
+		e := entity(p, "main.Main")
+		e.Fields[0].Type, e.Fields[1].Type, e.Fields[2].Type = typ, typ, ty("main.Cell box")
+		if i == 12 {
+			p = append(p, api.Entity{Kind: api.Class, Name: long(301)})
+		}
+		w, _ := world.New(p, nil)
+		w.Take(1)
+		v := made(t, w, 1, "main.Cell")
+		if i == 12 {
+			v = made(t, w, 1, long(301))
+		}
+		for _, f := range []string{"c", "w", "s"} {
+			set(t, w, actor(1), f, v)
+		}
+		want := []world.Path{{1, -1, int(v.Lo), api.Box}}
+		if i == 12 {
+			want = nil
+		}
+		if got := w.Paths(); !slices.Equal(got, want) {
+			t.Errorf("type %d: %v", i, got)
+		}
+	}
+	p := program(t)
+	entity(p, "String").Fields = []api.Field{{Name: "x", Type: ty("Any ref")}}
+	w, _ := world.New(p, []string{"a"})
+	if got := w.Paths(); len(got) != 3 {
+		t.Errorf("of a String that has fields in the program: %v", got)
+	}
+}
+
 // TestReached: what is reached further, by the capability of each object.
 func TestReached(t *testing.T) {
 	// The fields of a Cell: i iso, t trn, r ref, v val, b box, g tag.

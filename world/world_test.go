@@ -146,7 +146,7 @@ func TestStates(t *testing.T) {
 			t.Fatalf("Load: error %d", e)
 		}
 		spoil(&s)
-		if alike(again.State(), s) || !alike(again.State(), w.State()) {
+		if alike(again.State(), s) || !alike(again.State(), w.State()) || !alike(w.State().Program, program(t)) {
 			t.Error("a world shares memory with its state")
 		}
 	}
