@@ -144,6 +144,13 @@ func TestDepth(t *testing.T) {
 			t.Errorf("%d calls by Eval: %v", n, o)
 		}
 	}
+	for n, want := range map[string]meaning.End{"0": rest, "99": rest, "100": {Kind: meaning.Fuel, Actor: 2, Code: api.ErrDepth}} {
+		p := program(t)
+		method(p, "main.Worker", "add").Body = call("deep", create("main.Cell ref", "create"), lit(n))
+		if _, end, _ := meaning.Step(posted(t, p, 2, "add", none), 0, 100000); end != want {
+			t.Errorf("%s calls by a message: %v", n, end)
+		}
+	}
 	twice := seq(call("deep", this, lit("100")), call("deep", this, lit("100")))
 	if o := meaning.Eval(w, 1, object(2), twice, nil, 100000); o.Kind != meaning.Value {
 		t.Errorf("one behind the other: %v", o)
@@ -197,7 +204,15 @@ func TestNew(t *testing.T) {
 		!alike(s.Actors[3].Mail, []api.Message{{From: 1, To: 3, Name: "create", Args: []api.Value{u32(2)}}}) || len(s.Trace) != 1 {
 		t.Errorf("what was made: %v", o)
 	}
-	p := program(t)
+	if o := meaning.Eval(w, 9, none, create("main.Leaf ref", "create"), nil, 99); !alike(o, meaning.Outcome{Kind: meaning.Wrong, Code: api.ErrNone, Used: 1}) {
+		t.Errorf("an object of no actor: %v", o)
+	}
+	p := append(program(t), api.Entity{Kind: api.Actor, Methods: []api.Method{{Kind: api.New, Name: "create"}}})
+	unnamed := api.Expr{Op: api.OpNew, Text: "create", Types: []api.Type{{}}}
+	if o := meaning.Eval(over(t, p), 1, none, unnamed, nil, 99); !alike(o, meaning.Outcome{Kind: meaning.Wrong, Code: world.ErrMethod, Used: 1}) {
+		t.Errorf("an actor without a name: %v", o)
+	}
+	p = program(t)
 	m := method(p, "main.Leaf", "create")
 	m.Body, m.Result = returns(one), ty("None val")
 	if o := meaning.Eval(over(t, p), 1, none, create("main.Leaf ref", "create"), nil, 99); !alike(o, meaning.Outcome{Value: object(4), Used: 3}) {

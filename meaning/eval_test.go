@@ -178,6 +178,9 @@ func TestFields(t *testing.T) {
 			t.Errorf("a field of the actor 2 for %d: %v", actorOf, o)
 		}
 	}
+	if o := meaning.Eval(w, 0, actor(0), own, nil, 9); o.Code != world.ErrMethod {
+		t.Errorf("a field of the actor 0 for itself: %v", o)
+	}
 	for _, v := range []api.Value{{Kind: api.ValActor, Lo: 1, Hi: 1}, object(99), {Kind: 18, Hi: 1}} {
 		if o := meaning.Eval(w, 1, v, own, nil, 9); o.Kind != meaning.Wrong || o.Code != world.ErrBroken {
 			t.Errorf("a field of %v: %v", v, o)

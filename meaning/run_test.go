@@ -318,6 +318,13 @@ func TestStep(t *testing.T) {
 			t.Errorf("step %d: the message was not taken", i)
 		}
 	}
+}
+
+// TestStepEnds: steps without fuel, without mail, and by the runtime.
+func TestStepEnds(t *testing.T) {
+	end := func(kind, actor int, code api.Errno) meaning.End {
+		return meaning.End{Kind: kind, Actor: actor, Code: code}
+	}
 	w := posted(t, program(t), 2, "create", u32(3))
 	before := w.State()
 	for _, fuel := range []int{0, -5} {

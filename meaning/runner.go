@@ -120,9 +120,6 @@ func (r *runner) step(choice int) (End, bool) {
 	if !ok {
 		return End{Rest, -1, api.OK}, false
 	}
-	if r.left == 0 {
-		return End{Fuel, actor, api.ErrSteps}, true
-	}
 	r.actor, r.bodies = actor, 0
 	o := r.guarded(func() outcome {
 		r.spend()

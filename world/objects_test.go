@@ -112,6 +112,12 @@ func TestFields(t *testing.T) {
 	if again, _ := w.Get(a, "p"); !alike(again, tuple(one, tuple(one, one))) {
 		t.Errorf("a field shares its memory: %v", again)
 	}
+}
+
+// TestFieldErrors: of Get and Set, in their order.
+func TestFieldErrors(t *testing.T) {
+	w := busy(t)
+	a := made(t, w, 1, "main.Cell")
 	wrong := wrongValues()
 	unchanged(t, w, func() {
 		for _, v := range wrong {

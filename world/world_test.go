@@ -258,17 +258,18 @@ func TestCheckValues(t *testing.T) {
 	}
 }
 
-// TestCheckStates: all else that makes a state right or wrong.
-func TestCheckStates(t *testing.T) {
-	type change = func(*world.State)
+// change is a change of a busy state, and whether it is right then.
+type change struct {
+	right bool
+	do    func(*world.State)
+}
+
+func changes() []change {
 	text := func(s *world.State, n int) { s.Cells = append(s.Cells, api.Cell{Type: "String", Bytes: long(n)}) }
 	array := func(s *world.State, typ string, n int) {
 		s.Cells = append(s.Cells, api.Cell{Type: typ, Fields: slices.Repeat([]api.Value{one}, n)})
 	}
-	for i, c := range []struct {
-		right bool
-		do    change
-	}{
+	return []change{
 		{true, func(s *world.State) {}},
 		{true, func(s *world.State) { s.Actors = append(s.Actors, make([]world.Actor, 61)...) }},
 		{false, func(s *world.State) { s.Actors = append(s.Actors, make([]world.Actor, 62)...) }},
@@ -318,7 +319,12 @@ func TestCheckStates(t *testing.T) {
 		{false, func(s *world.State) { s.Cells = append(s.Cells, api.Cell{Fields: []api.Value{{}}}) }},
 		{false, func(s *world.State) { s.Cells[4] = api.Cell{} }},
 		{true, func(s *world.State) { s.Cells[6].Fields[0] = api.Value{} }},
-	} {
+	}
+}
+
+// TestCheckStates: all else that makes a state right or wrong.
+func TestCheckStates(t *testing.T) {
+	for i, c := range changes() {
 		s := busy(t).State()
 		c.do(&s)
 		want := api.OK
