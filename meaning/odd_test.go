@@ -199,8 +199,8 @@ func TestCheckedBodies(t *testing.T) {
 	}
 	i, _ := subtype.Find(checked, cells.Entity)
 	j := slices.IndexFunc(checked[i].Methods, func(m api.Method) bool { return m.Name == cells.Method })
-	kinds, nodes := map[int]int{}, 0
-	for seed := range uint64(1000) {
+	kinds, nodes, steps := map[int]int{}, 0, 0
+	for seed := range uint64(600) {
 		body := cells.New(seed, 0).Body(5)
 		checked[i].Methods[j].Body = body
 		if _, _, e := check.Method(checked, i, j); e != api.OK {
@@ -214,15 +214,24 @@ func TestCheckedBodies(t *testing.T) {
 		if r.Kind != meaning.Value && r.Kind != meaning.Empty || r.Kind == meaning.Value && !w.Is(r.Value, ty("U32 val")) {
 			t.Fatalf("seed %d: %v", seed, r)
 		}
-		if world.Check(w.State()) != api.OK || !isTyped(w) {
-			t.Fatalf("seed %d: a state that is not right, or not typed\n%s", seed, w.Dump())
-		}
-		if a, b, race := w.Race(); race {
-			t.Fatalf("seed %d: %v and %v race in\n%s", seed, a, b, w.Dump())
+		for ok := true; ok; {
+			if world.Check(w.State()) != api.OK || !isTyped(w) {
+				t.Fatalf("seed %d: a state that is not right, or not typed\n%s", seed, w.Dump())
+			}
+			if a, b, race := w.Race(); race {
+				t.Fatalf("seed %d: %v and %v race in\n%s", seed, a, b, w.Dump())
+			}
+			var end meaning.End
+			if _, end, ok = meaning.Step(w, int(seed), 1000); end.Kind == meaning.Stuck {
+				t.Fatalf("seed %d: %v", seed, end)
+			}
+			if ok {
+				steps++
+			}
 		}
 	}
-	t.Logf("outcomes %v, fuel %d", kinds, nodes)
-	if kinds[meaning.Value] < 400 {
+	t.Logf("outcomes %v, fuel %d, %d steps", kinds, nodes, steps)
+	if kinds[meaning.Value] < 250 {
 		t.Errorf("outcomes: %v", kinds)
 	}
 }
