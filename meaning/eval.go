@@ -10,16 +10,16 @@ import (
 
 const many = 1<<31 - 1
 
-// shapes says of each operation how many types and how many kids it has, at least and at most. A type of which no
-// evaluation asks may be missing.
+// shapes says of each operation how many types and how many kids it has, at least and at most. A type must be there also
+// where no evaluation asks for it.
 var shapes = [...]struct{ types, mostTypes, kids, mostKids int }{
 	api.OpLit:      {1, 1, 0, 0},
 	api.OpLocal:    {0, 0, 0, 0},
 	api.OpThis:     {0, 0, 0, 0},
 	api.OpGet:      {0, 0, 1, 1},
 	api.OpSet:      {0, 0, 2, 2},
-	api.OpVar:      {0, 1, 0, 1},
-	api.OpLet:      {0, 1, 0, 1},
+	api.OpVar:      {1, 1, 0, 1},
+	api.OpLet:      {1, 1, 0, 1},
 	api.OpAssign:   {0, 0, 1, 1},
 	api.OpConsume:  {0, 0, 0, 0},
 	api.OpSeq:      {0, 0, 0, many},
@@ -34,7 +34,7 @@ var shapes = [...]struct{ types, mostTypes, kids, mostKids int }{
 	api.OpContinue: {0, 0, 0, 0},
 	api.OpCall:     {0, many, 1, many},
 	api.OpNew:      {1, many, 0, many},
-	api.OpRecover:  {0, 1, 1, 1},
+	api.OpRecover:  {1, 1, 1, 1},
 	api.OpTuple:    {0, 0, 2, many},
 	api.OpItem:     {0, 0, 1, 1},
 	api.OpIs:       {0, 0, 2, 2},

@@ -225,7 +225,7 @@ func TestControl(t *testing.T) {
 		evaluated{returns(fails), raised(), 2},
 		evaluated{returns(nothing), wrong(api.ErrForm), 2},
 		evaluated{fails, raised(), 1},
-		evaluated{x(api.OpRecover, "", one), value(u32(1)), 2},
+		evaluated{x(api.OpRecover, "", one), wrong(api.ErrForm), 1},
 		evaluated{tx(api.OpRecover, "", "this iso", one), value(u32(1)), 2},
 		evaluated{tx(api.OpRecover, "", "this iso", breaks), of(meaning.Break), 2},
 	)
@@ -329,13 +329,12 @@ func TestValues(t *testing.T) {
 func TestForms(t *testing.T) {
 	type shape struct{ types, kids []int }
 	fixed := func(types int, kids ...int) shape { return shape{[]int{types}, kids} }
-	open := func(kids ...int) shape { return shape{[]int{0, 1}, kids} }
 	all := []int{0, 1, 2, 3, 4, 5}
 	shapes := map[int]shape{
-		api.OpLit: fixed(1, 0), api.OpLocal: fixed(0, 0), api.OpThis: fixed(0, 0), api.OpGet: fixed(0, 1), api.OpSet: fixed(0, 2), api.OpVar: open(0, 1), api.OpLet: open(0, 1),
+		api.OpLit: fixed(1, 0), api.OpLocal: fixed(0, 0), api.OpThis: fixed(0, 0), api.OpGet: fixed(0, 1), api.OpSet: fixed(0, 2), api.OpVar: fixed(1, 0, 1), api.OpLet: fixed(1, 0, 1),
 		api.OpAssign: fixed(0, 1), api.OpConsume: fixed(0, 0), api.OpSeq: fixed(0, all...), api.OpIf: fixed(0, 3), api.OpWhile: fixed(0, 3), api.OpMatch: fixed(0, 1, 2, 3, 4, 5), api.OpCase: {},
 		api.OpTry: fixed(0, 3), api.OpError: fixed(0, 0), api.OpReturn: fixed(0, 0, 1), api.OpBreak: fixed(0, 0), api.OpContinue: fixed(0, 0), api.OpCall: {all, all[1:]}, api.OpNew: {all[1:], all},
-		api.OpRecover: open(1), api.OpTuple: fixed(0, 2, 3, 4, 5), api.OpItem: fixed(0, 1), api.OpIs: fixed(0, 2), api.OpUnit: fixed(1, 0),
+		api.OpRecover: fixed(1, 1), api.OpTuple: fixed(0, 2, 3, 4, 5), api.OpItem: fixed(0, 1), api.OpIs: fixed(0, 2), api.OpUnit: fixed(1, 0),
 	}
 	w := begun(t)
 	for op, s := range shapes {
@@ -357,6 +356,38 @@ func TestForms(t *testing.T) {
 	}
 	for _, op := range []int{0, -1, 27, 1 << 40, -1 << 63} {
 		expect(t, evaluated{api.Expr{Op: op, Kids: []api.Expr{fails}}, wrong(api.ErrForm), 1})
+	}
+}
+
+// untyped are an OpVar, an OpLet and an OpRecover with another number of Types than one.
+func untyped() []api.Expr {
+	two := []api.Type{ty("U32 val"), ty("U32 val")}
+	return []api.Expr{
+		x(api.OpVar, "z"), x(api.OpVar, "z", one), {Op: api.OpVar, Text: "z", Types: two}, x(api.OpLet, "z"), x(api.OpLet, "z", fails), {Op: api.OpLet, Text: "z", Types: two, Kids: []api.Expr{one}},
+		x(api.OpRecover, "", one), x(api.OpRecover, "", fails), {Op: api.OpRecover, Types: two, Kids: []api.Expr{one}},
+	}
+}
+
+// TestUntyped: what has one type by package api has it, also where no evaluation asks for it; ahead of all else.
+func TestUntyped(t *testing.T) {
+	for _, e := range untyped() {
+		expect(t,
+			evaluated{e, wrong(api.ErrForm), 1},
+			evaluated{seq(one, e), wrong(api.ErrForm), 3},
+			evaluated{try(e, two, returns(three)), wrong(api.ErrForm), 2},
+			evaluated{when(no, e, two), value(u32(2)), 3},
+		)
+		p := program(t)
+		method(p, "main.Cell", "get").Body = e
+		method(p, "main.Main", "create").Body = seq(one, e)
+		w := over(t, p)
+		called(t, w, wrong(api.ErrForm), 1, object(2), "get")
+		if used, end, ok := meaning.Step(w, 0, 99); used != 4 || !ok || end != (meaning.End{Kind: meaning.Stuck, Actor: 1, Code: api.ErrForm}) {
+			t.Errorf("Step: %d, %v, %v", used, end, ok)
+		}
+		if _, end := meaning.Run(p, nil, nil, 99); end != (meaning.End{Kind: meaning.Stuck, Actor: 1, Code: api.ErrForm}) {
+			t.Errorf("Run: %v", end)
+		}
 	}
 }
 
