@@ -1,6 +1,9 @@
 package meaning
 
-import "hackamore/api"
+import (
+	"hackamore/api"
+	"hackamore/walk"
+)
 
 func (f *frame) sequence(e *api.Expr) outcome {
 	o := none()
@@ -65,7 +68,7 @@ func (f *frame) match(e *api.Expr) outcome {
 	}
 	for i := range e.Kids[1:] {
 		c := &e.Kids[i+1]
-		if c.Op != api.OpCase || !isFormed(c) {
+		if c.Op != api.OpCase || !walk.Formed(c) {
 			return wrong(api.ErrForm)
 		}
 		if !f.w.Is(operand.value, c.Types[0]) {

@@ -5,50 +5,9 @@ import (
 
 	"hackamore/api"
 	"hackamore/num"
+	"hackamore/walk"
 	"hackamore/world"
 )
-
-const many = 1<<31 - 1
-
-// shapes says of each operation how many types and how many kids it has, at least and at most. A type must be there also
-// where no evaluation asks for it.
-var shapes = [...]struct{ types, mostTypes, kids, mostKids int }{
-	api.OpLit:      {1, 1, 0, 0},
-	api.OpLocal:    {0, 0, 0, 0},
-	api.OpThis:     {0, 0, 0, 0},
-	api.OpGet:      {0, 0, 1, 1},
-	api.OpSet:      {0, 0, 2, 2},
-	api.OpVar:      {1, 1, 0, 1},
-	api.OpLet:      {1, 1, 0, 1},
-	api.OpAssign:   {0, 0, 1, 1},
-	api.OpConsume:  {0, 0, 0, 0},
-	api.OpSeq:      {0, 0, 0, many},
-	api.OpIf:       {0, 0, 3, 3},
-	api.OpWhile:    {0, 0, 3, 3},
-	api.OpMatch:    {0, 0, 1, many},
-	api.OpCase:     {1, 1, 2, 2},
-	api.OpTry:      {0, 0, 3, 3},
-	api.OpError:    {0, 0, 0, 0},
-	api.OpReturn:   {0, 0, 0, 1},
-	api.OpBreak:    {0, 0, 0, 0},
-	api.OpContinue: {0, 0, 0, 0},
-	api.OpCall:     {0, many, 1, many},
-	api.OpNew:      {1, many, 0, many},
-	api.OpRecover:  {1, 1, 1, 1},
-	api.OpTuple:    {0, 0, 2, many},
-	api.OpItem:     {0, 0, 1, 1},
-	api.OpIs:       {0, 0, 2, 2},
-	api.OpUnit:     {1, 1, 0, 0},
-}
-
-// isFormed reports whether an expression has as many types and kids as its operation asks for.
-func isFormed(e *api.Expr) bool {
-	if e.Op < api.OpLit || e.Op > api.OpLast {
-		return false
-	}
-	s := shapes[e.Op]
-	return len(e.Types) >= s.types && len(e.Types) <= s.mostTypes && len(e.Kids) >= s.kids && len(e.Kids) <= s.mostKids
-}
 
 // frame is where expressions of a body are evaluated: the receiver, and the local variables.
 type frame struct {
@@ -75,7 +34,7 @@ func (f *frame) bind(name string, v api.Value) {
 // eval evaluates an expression.
 func (f *frame) eval(e *api.Expr) outcome {
 	f.spend()
-	if !isFormed(e) {
+	if !walk.Formed(e) {
 		return wrong(api.ErrForm)
 	}
 	switch e.Op {

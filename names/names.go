@@ -8,6 +8,7 @@ import (
 	"hackamore/api"
 	"hackamore/parser"
 	"hackamore/sugar"
+	"hackamore/walk"
 )
 
 // Errors of this layer.
@@ -77,7 +78,7 @@ func Program(texts map[string]string, flags []string) ([]api.Entity, api.Errno) 
 func isMain(m api.Entity) bool {
 	for _, c := range m.Methods {
 		if c.Name == "create" && c.Kind == api.New {
-			return m.Kind == api.Actor && len(c.Params) == 1 && equalType(c.Params[0].Type, named("Env", api.Val))
+			return m.Kind == api.Actor && len(c.Params) == 1 && walk.SameType(c.Params[0].Type, named("Env", api.Val))
 		}
 	}
 	return false
@@ -94,32 +95,4 @@ func Find(p []api.Entity, name string) (api.Entity, bool) {
 }
 
 // Equal reports whether two programs are equal.
-func Equal(a, b []api.Entity) bool { return slices.EqualFunc(a, b, equalEntity) }
-
-func equalEntity(a, b api.Entity) bool {
-	return a.Kind == b.Kind && a.Name == b.Name && a.Cap == b.Cap && slices.EqualFunc(a.Bounds, b.Bounds, equalBound) &&
-		slices.EqualFunc(a.Provides, b.Provides, equalType) && slices.EqualFunc(a.Fields, b.Fields, equalField) &&
-		slices.EqualFunc(a.Methods, b.Methods, equalMethod)
-}
-
-func equalBound(a, b api.Bound) bool { return a.Name == b.Name && equalType(a.Type, b.Type) }
-
-func equalField(a, b api.Field) bool {
-	return a.Name == b.Name && a.Let == b.Let && equalType(a.Type, b.Type)
-}
-
-func equalParam(a, b api.Param) bool { return a.Name == b.Name && equalType(a.Type, b.Type) }
-
-func equalMethod(a, b api.Method) bool {
-	return a.Kind == b.Kind && a.Name == b.Name && a.Cap == b.Cap && slices.EqualFunc(a.Bounds, b.Bounds, equalBound) &&
-		slices.EqualFunc(a.Params, b.Params, equalParam) && equalType(a.Result, b.Result) && a.Partial == b.Partial &&
-		equalExpr(a.Body, b.Body)
-}
-
-func equalType(a, b api.Type) bool {
-	return a.Kind == b.Kind && a.Name == b.Name && a.Cap == b.Cap && a.Mark == b.Mark && slices.EqualFunc(a.Args, b.Args, equalType)
-}
-
-func equalExpr(a, b api.Expr) bool {
-	return a.Op == b.Op && a.Text == b.Text && slices.EqualFunc(a.Types, b.Types, equalType) && slices.EqualFunc(a.Kids, b.Kids, equalExpr)
-}
+func Equal(a, b []api.Entity) bool { return walk.SameProgram(a, b) }
