@@ -4,6 +4,7 @@ package cells
 
 import (
 	"strconv"
+	"strings"
 
 	"hackamore/api"
 	"hackamore/samples"
@@ -74,6 +75,21 @@ actor Main
     let f: F32 = F32.create(1.5)
   fun box look(a: Array[Cell]): U32 => U32.create(1)
 `
+
+// Filled returns the text of the program with more constructors, in which Cells that nobody else has can be made, though the
+// checker would not take this: the innermost ones have fields without values.
+func Filled() string {
+	const loop = "\n    while true do None end\n    cell()\n"
+	const blank = "c = this; b = this; g = this; v = U32.create(1); l = U32.create(2)"
+	s := strings.Replace(Text, loop, " Cell.third()\n", 1)
+	return strings.Replace(s, "  fun ref raw()", "  new first() => "+blank+"\n  new second() => "+blank+"; i = Cell.first(); t = Cell.first()\n"+
+		"  new third() => "+blank+"; i = Cell.second(); t = Cell.second()\n  fun ref raw()", 1)
+}
+
+// Calling returns that text with a Main that calls the function with bodies.
+func Calling() string {
+	return strings.Replace(Filled(), "    let a: Array", "    Worker.create(Cell.third().put(U32.create(3), Cell.third()))\n    let a: Array", 1)
+}
 
 // Entity and Method are the names of the function for which bodies are made: fun ref put(n: U32, o: Cell): U32.
 const (

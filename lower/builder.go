@@ -60,7 +60,10 @@ func (s *source) function(entity string, m *api.Method) (f ssa.Func, e api.Errno
 	if !walk.Small(m.Body, api.MaxNodes, api.MaxTree) || !isRight(&m.Body, false) {
 		return ssa.Func{}, ErrLower
 	}
-	b := &builder{source: s, locals: make(map[string]*variable), variables: make(map[string]*variable), clears: make(map[int]*variable), failing: newLabel(), rules: rules()}
+	b := &builder{
+		source: s, locals: make(map[string]*variable), variables: make(map[string]*variable),
+		clears: make(map[int]*variable), failing: newLabel(), rules: rules(),
+	}
 	b.isNew, b.isNone = m.Kind == api.New, m.Result.Kind == api.TypeName && m.Result.Name == "None"
 	b.begin(entity, m)
 	b.f.Blocks = make([]ssa.Block, 1)

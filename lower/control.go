@@ -96,7 +96,8 @@ func (b *builder) match(x *api.Expr, want bool) int {
 	return b.taken(r)
 }
 
-// scope is something around a place that is looked at by what leaves it: a loop, the first Kid of an OpTry, or its first two, behind which its third one is run.
+// scope is something around a place that is looked at by what leaves it: a loop, the first Kid of an OpTry, or its first two,
+// behind which its third one is run.
 type scope struct {
 	cycle   *cycle
 	handler *label

@@ -104,7 +104,7 @@ func TestBodies(t *testing.T) {
 // TestCheckedBodies: bodies that the checker takes.
 func TestCheckedBodies(t *testing.T) {
 	checked := parsed(t, cells.Text)
-	p := parsed(t, withCells())
+	p := parsed(t, cells.Calling())
 	i, _ := subtype.Find(checked, cells.Entity)
 	j := slices.IndexFunc(checked[i].Methods, func(m api.Method) bool { return m.Name == cells.Method })
 	rests := 0

@@ -3,11 +3,9 @@ package lower_test
 import (
 	"reflect"
 	"slices"
-	"strings"
 	"testing"
 
 	"hackamore/api"
-	"hackamore/cells"
 	"hackamore/generic"
 	"hackamore/names"
 	"hackamore/samples"
@@ -396,13 +394,4 @@ func equal(a, b reflect.Value) bool {
 		return true
 	}
 	return a.Equal(b)
-}
-
-// withCells returns the text of the program of package cells with more constructors, and a Main that calls the function with bodies.
-func withCells() string {
-	s := strings.Replace(cells.Text, "\n    while true do None end\n    cell()\n", " Cell.third()\n", 1)
-	const blank = "c = this; b = this; g = this; v = U32.create(1); l = U32.create(2)"
-	s = strings.Replace(s, "  fun ref raw()", "  new first() => "+blank+"\n  new second() => "+blank+"; i = Cell.first(); t = Cell.first()\n"+
-		"  new third() => "+blank+"; i = Cell.second(); t = Cell.second()\n  fun ref raw()", 1)
-	return strings.Replace(s, "    let a: Array", "    Worker.create(Cell.third().put(U32.create(3), Cell.third()))\n    let a: Array", 1)
 }

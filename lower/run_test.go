@@ -174,7 +174,6 @@ func TestInstructionErrors(t *testing.T) {
 		want meaning.End
 		l    []ssa.Ins
 	}{
-		{"a text that is too long", spent(api.ErrLarge), nil},
 		{"load", stuck(world.ErrUnset), []ssa.Ins{named(ssa.Load, 50, "x")}}, {"load of nothing", stuck(world.ErrUnset), []ssa.Ins{none, named(ssa.Store, 12, "x", 11), named(ssa.Load, 50, "x")}},
 		{"get without a value", stuck(world.ErrUnset), []ssa.Ins{named(ssa.Get, 50, "k", 0)}}, {"get of no field", stuck(world.ErrMethod), []ssa.Ins{named(ssa.Get, 50, "none", 0)}}, {"get of a number", stuck(world.ErrMethod), []ssa.Ins{one, named(ssa.Get, 50, "k", 10)}},
 		{"get of another actor", stuck(api.ErrCap), []ssa.Ins{one, worker, named(ssa.Get, 50, "n", 12)}}, {"set of another actor", stuck(api.ErrCap), []ssa.Ins{one, worker, named(ssa.Set, 50, "n", 12, 10)}},
@@ -190,9 +189,6 @@ func TestInstructionErrors(t *testing.T) {
 		{"a native with nothing", stuck(world.ErrUnset), []ssa.Ins{none, named(ssa.Native, 50, "none", 0, 11)}}, {"spawn with nothing", stuck(world.ErrUnset), []ssa.Ins{none, spawn(50, "none", "none", 11)}}, {"send with nothing", stuck(world.ErrUnset), []ssa.Ins{one, none, named(ssa.Send, 50, "add", 10, 11)}},
 		{"a tuple of nothing", stuck(world.ErrUnset), []ssa.Ins{none, ins(ssa.Tuple, 50, 0, 11)}}, {"item of nothing", stuck(world.ErrUnset), []ssa.Ins{none, item(50, 0, 11)}}, {"is nothing", stuck(world.ErrUnset), []ssa.Ins{none, ins(ssa.Is, 50, 11, 0)}}, {"fits nothing", stuck(world.ErrUnset), []ssa.Ins{none, fits(50, "Any tag", 11)}},
 	} {
-		if c.l == nil {
-			continue
-		}
 		ends(t, c.what, c.want, c.l...)
 	}
 }

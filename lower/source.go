@@ -30,7 +30,10 @@ func newSource(p []api.Entity) (*source, api.Errno) {
 	if _, e := world.New(p, nil); e != api.OK {
 		return nil, e
 	}
-	s := &source{entities: make(map[string]*api.Entity), found: make(map[string][]*api.Method), natives: make(map[string]map[string]num.Signature), known: make(map[string]*meant)}
+	s := &source{
+		entities: make(map[string]*api.Entity), found: make(map[string][]*api.Method),
+		natives: make(map[string]map[string]num.Signature), known: make(map[string]*meant),
+	}
 	for i := range p {
 		s.entities[p[i].Name] = &p[i]
 		s.names = append(s.names, p[i].Name)
@@ -121,7 +124,8 @@ func (s *source) meaning(name string) *meant {
 	return m
 }
 
-// isRight reports whether a body is as it is asked for when it is run: the numbers of Kids and Types, cases, what leaves loops, literals and digits.
+// isRight reports whether a body is as it is asked for when it is run: the numbers of Kids and Types, cases, what leaves
+// loops, literals and digits.
 func isRight(x *api.Expr, loop bool) bool {
 	if !walk.Formed(x) {
 		return false

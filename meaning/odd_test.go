@@ -2,7 +2,6 @@ package meaning_test
 
 import (
 	"slices"
-	"strings"
 	"testing"
 
 	"hackamore/api"
@@ -180,20 +179,10 @@ func TestThen(t *testing.T) {
 	}
 }
 
-// withCells is the text of the program of package cells, in which Cells that nobody else has can be made, though the checker
-// would not take this: the innermost ones have fields without values.
-func withCells() string {
-	const loop = "\n    while true do None end\n    cell()\n"
-	const blank = "c = this; b = this; g = this; v = U32.create(1); l = U32.create(2)"
-	s := strings.Replace(cells.Text, loop, " Cell.third()\n", 1)
-	return strings.Replace(s, "  fun ref raw()", "  new first() => "+blank+"\n  new second() => "+blank+"; i = Cell.first(); t = Cell.first()\n"+
-		"  new third() => "+blank+"; i = Cell.second(); t = Cell.second()\n  fun ref raw()", 1)
-}
-
 // TestCheckedBodies: a body that the checker takes is never wrong, and breaks no types and capabilities (P18.6).
 func TestCheckedBodies(t *testing.T) {
 	checked, e := parsed(cells.Text)
-	p, e2 := parsed(withCells())
+	p, e2 := parsed(cells.Filled())
 	if e != api.OK || e2 != api.OK {
 		t.Fatalf("the program: errors %d and %d", e, e2)
 	}

@@ -1,6 +1,7 @@
 package optimize
 
 import (
+	"slices"
 	"strings"
 
 	"hackamore/api"
@@ -19,14 +20,27 @@ func (e *editor) copies() {
 			if b == noneOfThem {
 				continue
 			}
-			e.record(Step{Kind: StepCopy, A: x.Result, B: b})
-			e.names[x.Result] = b
+			if e.isUsed(x) {
+				e.record(Step{Kind: StepCopy, A: x.Result, B: b})
+				e.names[x.Result] = b
+			}
 			e.record(Step{Kind: StepDrop, A: x.Result})
 			x.Op = gone
 			again = true
 		}
 	}
 	e.drop()
+}
+
+// isUsed reports whether the value of an instruction is among the Args of anything else.
+func (e *editor) isUsed(x *ssa.Ins) bool {
+	isIt := func(v int) bool { return e.find(v) == x.Result }
+	for _, y := range blocks.All(e.f) {
+		if y != x && y.Op != gone && slices.ContainsFunc(y.Args, isIt) {
+			return true
+		}
+	}
+	return slices.ContainsFunc(e.f.Blocks, func(b ssa.Block) bool { return slices.ContainsFunc(b.End.Args, isIt) })
 }
 
 // source returns the value that the one of a phi or an item is.

@@ -126,7 +126,10 @@ func (w *writer) function(f *Func) {
 }
 
 func insWords(x *Ins) []string {
-	return []string{operations[x.Op].name, strconv.Itoa(x.Result), typeWord(x.Type), listWord(x.Args), nameWord(x.Text), nameWord(x.Name), valueWord(x.Lit), strconv.Itoa(x.N), bitWord(x.Flag)}
+	return []string{
+		operations[x.Op].name, strconv.Itoa(x.Result), typeWord(x.Type), listWord(x.Args), nameWord(x.Text), nameWord(x.Name),
+		valueWord(x.Lit), strconv.Itoa(x.N), bitWord(x.Flag),
+	}
 }
 
 func bitWord(b bool) string {

@@ -1,160 +1,111 @@
 package witness_test
 
 import (
-	"slices"
 	"testing"
 
 	"hackamore/api"
 	"hackamore/graphs"
-	"hackamore/num"
 	"hackamore/optimize"
 	"hackamore/ssa"
 	"hackamore/witness"
-	"strings"
 )
 
-func values(f ssa.Func) int {
-	u, _ := ssa.Uses(f)
-	return len(u)
-}
-
-// candidates are all steps of a kind that might be done in a function.
-func candidates(p ssa.Program, k, n int) []optimize.Step {
-	f := p.Funcs[n]
-	var l []optimize.Step
-	vs := values(f)
-	step := func(a, b int) { l = append(l, optimize.Step{Kind: k, Func: n, A: a, B: b}) }
-	switch k {
-	case optimize.StepCopy, optimize.StepCommon, optimize.StepField:
-		for a := range vs {
-			for b := range vs {
-				step(a, b)
-			}
-		}
-	case optimize.StepBranch:
-		for a := range f.Blocks {
-			step(a, 0)
-			step(a, 1)
-		}
-	case optimize.StepJoin:
-		for a := range f.Blocks {
-			step(a, 0)
-		}
-	case optimize.StepDirect:
-		for a := range vs {
-			for _, g := range p.Funcs {
-				l = append(l, optimize.Step{Kind: k, Func: n, A: a, Text: g.Name})
-			}
-		}
-	case optimize.StepFold:
-		lits := map[int]api.Value{}
-		for _, b := range f.Blocks {
-			for _, x := range b.Ins {
-				if x.Op == ssa.Const {
-					lits[x.Result] = x.Lit
-				}
-			}
-		}
-		for _, b := range f.Blocks {
-			for _, x := range b.Ins {
-				if x.Op == ssa.Is {
-					for lo := range uint64(2) {
-						l = append(l, optimize.Step{Kind: k, Func: n, A: x.Result, Lit: api.Value{Kind: 1, Lo: lo}})
+// TestSteps: whatever may be done leads to a program that is right, and does the same (P22.2, P22.3).
+func TestSteps(t *testing.T) {
+	done := map[int]int{}
+	for seed := range uint64(150) {
+		m := graphs.New(seed+2200, 6, seed%4 == 0)
+		p := m.Program(3)
+		for kind := 1; kind <= optimize.StepCount; kind++ {
+			for i := range p.Funcs {
+				tried := steps(p, kind, i)
+				for range min(len(tried), 60) {
+					s := tried[m.Below(len(tried))]
+					q, e := witness.Apply(p, s)
+					if e != api.OK {
+						if e != witness.ErrRule || !alike(q, ssa.Program{}) {
+							t.Fatalf("%v: error %d", s, e)
+						}
+						continue
 					}
-				}
-				if x.Op == ssa.Native {
-					var args []api.Value
-					for _, v := range x.Args {
-						args = append(args, lits[v])
+					done[kind]++
+					if at, e := ssa.Check(q); e != api.OK {
+						t.Fatalf("%v: error %d at %v", s, e, at)
 					}
-					typ, m, _ := strings.Cut(x.Text, ".")
-					v, _, _ := num.Call(typ, m, args)
-					l = append(l, optimize.Step{Kind: k, Func: n, A: x.Result, Lit: v})
+					if kind != optimize.StepDirect {
+						sameEffects(t, s, p, q)
+					}
+					fewer(t, s, p, q)
 				}
 			}
-		}
-	default:
-		for a := range vs {
-			step(a, 0)
 		}
 	}
-	return l
-}
-
-var kindsOf = map[int][]int{
-	optimize.Copies: {1, 4}, optimize.Fold: {2, 5}, optimize.Common: {3}, optimize.Dead: {4, 6}, optimize.Inline: {7}, optimize.Devirt: {8}, optimize.Escape: {9}, optimize.Forward: {10},
-}
-
-func TestProbe(t *testing.T) {
-	done := map[int]int{}
-	for seed := range uint64(400) {
-		m := graphs.New(seed, 8, seed%3 == 0)
-		p := m.Program(4)
-		if at, e := ssa.Check(p); e != api.OK {
-			t.Fatalf("%d: %v %d", seed, at, e)
+	for kind := 1; kind <= optimize.StepCount; kind++ {
+		if done[kind] < 5 {
+			t.Errorf("steps that were done: %v", done)
 		}
+	}
+}
+
+// fewer asks what there is less of behind a step (P22.4).
+func fewer(t *testing.T, s optimize.Step, p, q ssa.Program) {
+	t.Helper()
+	all, uses := size(p)
+	allLeft, usesLeft := size(q)
+	switch s.Kind {
+	case optimize.StepInline, optimize.StepDirect, optimize.StepStack:
+		return
+	case optimize.StepCopy:
+		before, _ := ssa.Uses(p.Funcs[s.Func])
+		behind, _ := ssa.Uses(q.Funcs[s.Func])
+		if before[s.A] > 0 && behind[s.A] > 0 || allLeft != all {
+			t.Fatalf("%v: the value is used %d times", s, behind[s.A])
+		}
+		return
+	}
+	if allLeft > all || usesLeft > uses || allLeft == all && usesLeft == uses {
+		t.Fatalf("%v: %d and %d are left of %d and %d", s, allLeft, usesLeft, all, uses)
+	}
+}
+
+// TestWitness: what passes do is checked; a step less, or another program, is not (P21.2, P22.2).
+func TestWitness(t *testing.T) {
+	errors := map[api.Errno]int{}
+	for seed := range uint64(150) {
+		m := graphs.New(seed+2300, 7, false)
+		p := m.Program(4)
 		var passes []int
 		for range 4 {
-			passes = append(passes, 1+m.Below(8))
+			passes = append(passes, 1+m.Below(optimize.Passes))
 		}
 		q, l, e := optimize.Run(p, passes)
 		if e != api.OK {
-			t.Fatalf("%d: %d", seed, e)
+			t.Fatalf("error %d", e)
 		}
-		if n, e := witness.Check(p, q, l); e != api.OK {
-			t.Fatalf("%d: step %d of %d: error %d %v", seed, n, len(l), e, passes)
+		if n, e := witness.Check(p, q, l); n != 0 || e != api.OK {
+			t.Fatalf("step %d of %d: error %d", n, len(l), e)
 		}
-		for _, s := range l {
-			done[s.Kind]++
+		at := p
+		for i, s := range l {
+			if n, e := witness.Check(p, at, l[:i]); n != 0 || e != api.OK {
+				t.Fatalf("the steps ahead of %d: error %d", i, e)
+			}
+			if at, e = witness.Apply(at, s); e != api.OK {
+				t.Fatalf("step %d: error %d", i, e)
+			}
 		}
-		last := passes[3]
-		if last == optimize.Inline {
+		if len(l) == 0 {
 			continue
 		}
-		for i := range q.Funcs {
-			for _, k := range kindsOf[last] {
-				for _, s := range candidates(q, k, i) {
-					if _, e := witness.Apply(q, s); e != witness.ErrRule {
-						t.Fatalf("%d: %v may be done behind %v: %d", seed, s, passes, e)
-					}
-				}
-			}
-		}
-		// each step keeps what happens
-		at := p
-		for _, s := range l {
-			next, e := witness.Apply(at, s)
-			if e != api.OK {
-				t.Fatal(e)
-			}
-			if s.Kind != optimize.StepDirect {
-				for k := range 4 {
-					compare(t, at, next, s, k)
-				}
-			}
-			at = next
+		k := m.Below(len(l))
+		less := append(append([]optimize.Step{}, l[:k]...), l[k+1:]...)
+		n, e := witness.Check(p, q, less)
+		errors[e]++
+		if e == witness.ErrResult && n != len(less) || e == witness.ErrRule && n < k {
+			t.Fatalf("without the step %d, %v: error %d at %d", k, l[k], e, n)
 		}
 	}
-	t.Log(done)
-}
-
-func compare(t *testing.T, p, q ssa.Program, s optimize.Step, k int) {
-	t.Helper()
-	for i := range p.Funcs {
-		var args []graphs.Value
-		for j := range p.Funcs[i].Params {
-			args = append(args, graphs.Number(k+j*k/2))
-		}
-		a, la := graphs.Play(p, p.Funcs[i], args, 400)
-		b, lb := graphs.Play(q, q.Funcs[i], args, 400)
-		if a == graphs.Tired || b == graphs.Tired {
-			n := min(len(la), len(lb))
-			la, lb = la[:n], lb[:n]
-		} else if a != b {
-			t.Fatalf("%v: %s, not %s", s, b, a)
-		}
-		if !slices.Equal(la, lb) {
-			t.Fatalf("%v: %q, not %q", s, lb, la)
-		}
+	if errors[witness.ErrResult] < 20 || errors[witness.ErrRule] < 5 {
+		t.Errorf("errors %v", errors)
 	}
 }
