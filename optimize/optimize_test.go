@@ -144,6 +144,8 @@ func TestDead(t *testing.T) {
 	p := one(block(jump(3), number(2, 1)), block(returns(5), ins(ssa.Phi, 5, 3, 0)), block(jump(1)), block(branch(3, 1, 2), ins(ssa.Phi, 3, 2), number(4, 4), ins(ssa.Is, 6, 4, 4)))
 	want := one(block(branch(2, 1, 2), number(2, 1)), block(returns(5), ins(ssa.Phi, 5, 0, 2)), block(jump(1)))
 	becomes(t, "blocks", optimize.Dead, p, want, optimize.StepDrop, optimize.StepDrop, optimize.StepJoin)
+	circle := one(block(jump(1)), block(jump(2), ins(ssa.Phi, 2, 0, 3)), block(branch(0, 1, 3), ins(ssa.Phi, 3, 2)), block(returns(0)))
+	becomes(t, "a phi that needs itself alone behind a join", optimize.Dead, circle, one(block(jump(1)), block(branch(0, 1, 2)), block(returns(0))), optimize.StepJoin, optimize.StepDrop)
 	line := function("f", 2)
 	for range 400 {
 		line.Blocks = append(line.Blocks, block(returns(0)))

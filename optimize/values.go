@@ -127,10 +127,19 @@ func truth(is bool) api.Value {
 	return v
 }
 
-// dead drops what nobody needs, and joins blocks.
+// dead drops what nobody needs, and joins blocks, as long as there is something to do: a phi of itself and of one in a block
+// that joins another one is needed by nobody then.
 func (e *editor) dead() {
-	e.drop()
-	e.flush()
+	for before := -1; before < len(e.steps); {
+		before = len(e.steps)
+		e.drop()
+		e.flush()
+		e.joinAll()
+	}
+}
+
+// joinAll joins blocks.
+func (e *editor) joinAll() {
 	for i := 0; i < len(e.f.Blocks); {
 		to := e.next(i)
 		if to == noneOfThem {
