@@ -59,11 +59,18 @@ func Play(p ssa.Program, f ssa.Func, args []Value, fuel int) (string, []string) 
 	return end, r.Log
 }
 
+// most is how many parts of a value are looked at: tuples of tuples may have very many.
+const most = 300
+
 // show returns the text of a value; objects have numbers in the order in which they are met.
 func (r *Player) show(v Value) string {
 	open := make(map[*object]bool)
+	left := most
 	var write func(v Value) string
 	write = func(v Value) string {
+		if left--; left < 0 {
+			return "?"
+		}
 		var parts []string
 		for _, k := range v.kids {
 			parts = append(parts, write(k))
@@ -247,7 +254,15 @@ func truth(b bool) Value {
 }
 
 func same(v, w Value) bool {
-	return v.object == w.object && walk.SameValue(v.lit, w.lit) && slices.EqualFunc(v.kids, w.kids, same)
+	left := most
+	var equal func(v, w Value) bool
+	equal = func(v, w Value) bool {
+		if left--; left < 0 {
+			return true
+		}
+		return v.object == w.object && walk.SameValue(v.lit, w.lit) && slices.EqualFunc(v.kids, w.kids, equal)
+	}
+	return equal(v, w)
 }
 
 // call plays a call, a direct call, a spawn or a send.
