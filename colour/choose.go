@@ -132,7 +132,11 @@ func Least(w World) (int, api.Errno) {
 		colours[s] = -1
 		return false
 	}
+	// The selectors of one class conflict with each other.
 	n := 0
+	for _, l := range w.Classes {
+		n = max(n, len(l))
+	}
 search:
 	for {
 		if fits(0, 0, n) {
